@@ -30,6 +30,14 @@ func deep(n int, open string) []api.Frag {
 	return l
 }
 
+// within are n groups within each other, with a list in the innermost one.
+func within(n int, l []api.Frag) []api.Frag {
+	for range n {
+		l = []api.Frag{{Tok: tok("("), Open: "(", Kids: l}}
+	}
+	return l
+}
+
 // wide is a list of n tokens.
 func wide(n int) []api.Frag {
 	l := make([]api.Frag, n)
@@ -309,7 +317,7 @@ func TestFlat(t *testing.T) {
 
 // TestSizes asks all functions that tell number and depth at the limits.
 func TestSizes(t *testing.T) {
-	closed := func(l []api.Frag) []api.Frag { return []api.Frag{{Tok: tok("("), Open: "(", Kids: l}} }
+	closed := func(l []api.Frag) []api.Frag { return within(1, l) }
 	for _, x := range []struct {
 		name        string
 		l           []api.Frag
@@ -331,11 +339,21 @@ func TestSizes(t *testing.T) {
 		{"many groups", slices.Repeat(closed(nil), api.MaxTokens/2), api.MaxTokens, 1, api.OK},
 		{"too many groups", slices.Repeat(closed(nil), api.MaxTokens/2+1), api.MaxTokens + 1, 1, api.ErrLong},
 		{"deep groups", deep(api.MaxDeep, "begin"), 2*api.MaxDeep + 1, api.MaxDeep, api.OK},
-		{"too deep groups", append(wide(1), deep(api.MaxDeep+1, "begin")...), 2*api.MaxDeep + 3, api.MaxDeep + 1, api.ErrDeep},
-		{"far too deep groups", deep(3*api.MaxDeep, "("), 2*api.MaxDeep + 2, api.MaxDeep + 1, api.ErrDeep},
+		{"deep groups without a token", within(api.MaxDeep, nil), 2 * api.MaxDeep, api.MaxDeep, api.OK},
+		{"deep groups with some tokens", within(api.MaxDeep, wide(3)), 2*api.MaxDeep + 3, api.MaxDeep, api.OK},
+		{"too deep groups", append(wide(1), deep(api.MaxDeep+1, "begin")...), 2*api.MaxDeep + 1, api.MaxDeep + 1, api.ErrDeep},
+		{"too deep groups without a token", within(api.MaxDeep+1, nil), 2 * api.MaxDeep, api.MaxDeep + 1, api.ErrDeep},
+		{"groups that are deeper by two", within(api.MaxDeep+2, wide(1)), 2 * api.MaxDeep, api.MaxDeep + 1, api.ErrDeep},
+		{"far too deep groups", deep(3*api.MaxDeep, "("), 2 * api.MaxDeep, api.MaxDeep + 1, api.ErrDeep},
+		{"tokens around a group that is too deep", within(api.MaxDeep, slices.Concat(wide(2), closed(wide(5)), wide(1), deep(1, "if"), wide(1))), 2*api.MaxDeep + 4, api.MaxDeep + 1, api.ErrDeep},
+		{"a group beside those that are too deep", within(api.MaxDeep-1, slices.Concat(deep(2, "["), deep(1, "{"))), 2*(api.MaxDeep-1) + 2 + 3, api.MaxDeep + 1, api.ErrDeep},
+		{"too many tokens that are too deep", within(api.MaxDeep+1, wide(api.MaxTokens+1)), 2 * api.MaxDeep, api.MaxDeep + 1, api.ErrDeep},
+		{"too many groups that are too deep", within(api.MaxDeep, slices.Repeat(closed(nil), api.MaxTokens)), 2 * api.MaxDeep, api.MaxDeep + 1, api.ErrDeep},
+		{"many tokens beside a group that is too deep", within(api.MaxDeep, append(closed(nil), wide(api.MaxTokens-2*api.MaxDeep)...)), api.MaxTokens, api.MaxDeep + 1, api.ErrDeep},
+		{"too many tokens beside a group that is too deep", within(api.MaxDeep, append(closed(nil), wide(api.MaxTokens-2*api.MaxDeep+1)...)), api.MaxTokens + 1, api.MaxDeep + 1, api.ErrDeep},
 		{"too deep and too many", append(deep(api.MaxDeep+1, "("), wide(api.MaxTokens)...), api.MaxTokens + 1, api.MaxDeep + 1, api.ErrDeep},
 		{"too many and not right", append(wide(api.MaxTokens), api.Frag{Tok: tok("end")}), api.MaxTokens + 1, 0, api.ErrLong},
-		{"too deep and not right", deep(api.MaxDeep+1, "end"), 2*api.MaxDeep + 2, api.MaxDeep + 1, api.ErrDeep},
+		{"too deep and not right", deep(api.MaxDeep+1, "end"), 2 * api.MaxDeep, api.MaxDeep + 1, api.ErrDeep},
 	} {
 		if n := Size(x.l); n != x.size {
 			t.Errorf("Size(%s) = %d; expected %d", x.name, n, x.size)
@@ -359,6 +377,27 @@ func TestSizes(t *testing.T) {
 		if same := Same(x.l, tidy(x.l)); same != (x.depth <= api.MaxDeep) {
 			t.Errorf("Same(%s) = %v", x.name, same)
 		}
+	}
+}
+
+// TestSizeByChance has lists of fragments by chance within so many groups that some of theirs are too deep.
+func TestSizeByChance(t *testing.T) {
+	deeper := 0
+	readable(23, 3000, func(r *rand.Rand, _ []api.Token, f []api.Frag, _ []string) {
+		l := slices.Concat(f, within(api.MaxDeep-r.Intn(2), f), f)
+		counted := oracleCut(l, api.MaxDeep)
+		if n, want := Size(l), len(oracleFlat(counted)); n != want {
+			t.Fatalf("Size of %s within many groups = %d; expected %d", show(f), n, want)
+		}
+		if Depth(l) > api.MaxDeep {
+			deeper++
+			if Size(counted) != Size(l) || Depth(counted) != api.MaxDeep {
+				t.Fatalf("%s within many groups, without those that are too deep, has other numbers", show(f))
+			}
+		}
+	})
+	if deeper < 300 {
+		t.Errorf("only %d lists are too deep", deeper)
 	}
 }
 

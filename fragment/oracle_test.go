@@ -179,6 +179,20 @@ func oracleFlat(l []api.Frag) []api.Token {
 	return flat
 }
 
+// oracleCut is a list of fragments without its groups at a depth greater than most.
+func oracleCut(l []api.Frag, most int) []api.Frag {
+	var cut []api.Frag
+	for _, f := range l {
+		switch {
+		case f.Open == "":
+			cut = append(cut, f)
+		case most > 0:
+			cut = append(cut, api.Frag{Tok: f.Tok, Open: f.Open, Kids: oracleCut(f.Kids, most-1)})
+		}
+	}
+	return cut
+}
+
 var vocabulary = strings.Fields("a b m while class method macro slot end begin if block define ( ) [ ] { } ; , . => 1 x: #t ?e m@l end end ( ) method macro class m")
 
 // texts are the texts of tokens by chance: any ones, or such ones that groups are closed.

@@ -6,26 +6,24 @@ import (
 	"skerry/api"
 )
 
-// tokens yields the tokens of fragments, but for those within more than MaxDeep groups.
+// tokens yields the tokens of fragments, but for those of groups at a depth greater than MaxDeep.
 func tokens(l []api.Frag) iter.Seq[api.Token] {
 	return func(yield func(api.Token) bool) {
 		walk(l, api.MaxDeep, yield)
 	}
 }
 
-// walk yields the tokens of fragments, but for those within more than so many groups. It tells whether it may go on.
-func walk(l []api.Frag, groups int, yield func(api.Token) bool) bool {
+// walk yields the tokens of fragments, but for those of groups at a depth greater than most. It tells whether it may go on.
+func walk(l []api.Frag, most int, yield func(api.Token) bool) bool {
 	for _, f := range l {
+		isGroup := f.Open != ""
+		if isGroup && most == 0 {
+			continue // its own tokens are as deep as it is
+		}
 		if !yield(f.Tok) {
 			return false
 		}
-		if f.Open == "" {
-			continue
-		}
-		if groups > 0 && !walk(f.Kids, groups-1, yield) {
-			return false
-		}
-		if !yield(closing(f)) {
+		if isGroup && !(walk(f.Kids, most-1, yield) && yield(closing(f))) {
 			return false
 		}
 	}
