@@ -5,6 +5,7 @@ import (
 
 	"skerry/api"
 	"skerry/lex"
+	"skerry/lists"
 	"skerry/syntax"
 )
 
@@ -28,7 +29,7 @@ func tabulate(s api.Source, faces []api.Face) (*dictionary, api.Errno) {
 	switch {
 	case !c.rightUses():
 		return nil, api.ErrUse
-	case !all(s.Uses, c.rightImports):
+	case !lists.All(s.Uses, c.rightImports):
 		return nil, api.ErrExport
 	case !c.rightNames():
 		return nil, api.ErrQual
@@ -48,7 +49,7 @@ func (c *collector) rightUses() bool {
 	if _, ok := faceOf(c.faces, c.Name); c.Patch && !ok {
 		return false
 	}
-	return all(c.Uses, func(u api.Use) bool {
+	return lists.All(c.Uses, func(u api.Use) bool {
 		_, ok := faceOf(c.faces, u.Lib)
 		return ok && u.Lib != c.Name
 	})
@@ -56,7 +57,7 @@ func (c *collector) rightUses() bool {
 
 func (c *collector) rightImports(u api.Use) bool {
 	f, _ := faceOf(c.faces, u.Lib)
-	return all(u.Names, func(r api.Rename) bool {
+	return lists.All(u.Names, func(r api.Rename) bool {
 		_, ok := nameOf(f, r.From)
 		return ok
 	})
@@ -73,8 +74,8 @@ func (c *collector) rightNames() bool {
 		_, ok := Full(x.Name, c.Name)
 		return ok
 	}
-	return all(c.Defs, func(d api.Def) bool {
-		return all(named(d), possible) && all(functionsOf(d.Class.Slots), possible)
+	return lists.All(c.Defs, func(d api.Def) bool {
+		return lists.All(named(d), possible) && lists.All(functionsOf(d.Class.Slots), possible)
 	})
 }
 
@@ -124,7 +125,7 @@ func (c *collector) predefined(yield func(api.Export) bool) {
 func (c *collector) used(yield func(api.Export) bool) {
 	for _, u := range c.Uses {
 		f, _ := faceOf(c.faces, u.Lib)
-		if !all(brought(u, f), yield) {
+		if !lists.All(brought(u, f), yield) {
 			return
 		}
 	}
@@ -134,14 +135,14 @@ func (c *collector) used(yield func(api.Export) bool) {
 func (c *collector) patched(yield func(api.Export) bool) {
 	if c.Patch {
 		f, _ := faceOf(c.faces, c.Name)
-		all(f.Names, yield)
+		lists.All(f.Names, yield)
 	}
 }
 
 // defined yields what definitions introduce.
 func (c *collector) defined(yield func(api.Export) bool) {
 	for _, d := range c.Defs {
-		if !all(c.owned(named(d)), yield) || !all(c.ofSlots(d), yield) {
+		if !lists.All(c.owned(named(d)), yield) || !lists.All(c.ofSlots(d), yield) {
 			return
 		}
 	}
@@ -150,7 +151,7 @@ func (c *collector) defined(yield func(api.Export) bool) {
 // introduced yields what slots introduce.
 func (c *collector) introduced(yield func(api.Export) bool) {
 	for _, d := range c.Defs {
-		if !all(c.ofSlots(d), yield) {
+		if !lists.All(c.ofSlots(d), yield) {
 			return
 		}
 	}
@@ -169,7 +170,7 @@ func (c *collector) ofSlots(d api.Def) []api.Export {
 
 // owned is entries with the full names of definitions of the source.
 func (c *collector) owned(l []api.Export) []api.Export {
-	return each(l, func(x api.Export) api.Export {
+	return lists.Each(l, func(x api.Export) api.Export {
 		x.Full, _ = Full(x.Name, c.Name)
 		return x
 	})

@@ -4,6 +4,7 @@ import (
 	"slices"
 
 	"skerry/api"
+	"skerry/lists"
 )
 
 // scope tells whether a place is in the scope of a variable.
@@ -22,7 +23,7 @@ func (outer scope) with(names []string) scope {
 }
 
 func paramNames(l []api.Param) []string {
-	return each(l, func(p api.Param) string { return p.Name })
+	return lists.Each(l, func(p api.Param) string { return p.Name })
 }
 
 // boundIn is the variables that an expression binds in its Args with an index. (The name of a function is that of its let.)
@@ -44,7 +45,7 @@ func (r *resolver) typ(t api.Type) api.Type {
 	if t.Kind == api.TyClass || t.Kind == api.TySub {
 		t.Name = r.className(t.Name)
 	}
-	t.Args = each(t.Args, r.typ)
+	t.Args = lists.Each(t.Args, r.typ)
 	return t
 }
 
@@ -57,7 +58,7 @@ func (r *resolver) alone(e api.Expr) api.Expr {
 func (r *resolver) expr(e api.Expr, bound scope) api.Expr {
 	resolved := api.Expr{Kind: e.Kind, Num: e.Num, Keys: slices.Clone(e.Keys)}
 	resolved.Type = r.typ(e.Type)
-	resolved.Params = each(e.Params, r.param)
+	resolved.Params = lists.Each(e.Params, r.param)
 	resolved.Name = r.exprName(e, bound)
 	for i, a := range e.Args {
 		resolved.Args = append(resolved.Args, r.expr(a, bound.with(boundIn(e, i))))

@@ -5,11 +5,12 @@ import (
 
 	"skerry/api"
 	"skerry/lex"
+	"skerry/lists"
 )
 
 func rightFace(f api.Face) bool {
 	name := func(x api.Export) string { return x.Name }
-	return lex.IsPlain(f.Lib) && len(f.Names) <= api.MaxDefs && all(f.Names, rightExport) && distinct(f.Names, name)
+	return lex.IsPlain(f.Lib) && len(f.Names) <= api.MaxDefs && lists.All(f.Names, rightExport) && lists.Distinct(f.Names, name)
 }
 
 func rightExport(x api.Export) bool {
@@ -47,13 +48,13 @@ func nameOf(f api.Face, name string) (api.Export, bool) {
 // brought is the entries that a use clause brings from a face.
 func brought(u api.Use, f api.Face) []api.Export {
 	if !u.All {
-		return each(u.Names, func(r api.Rename) api.Export {
+		return lists.Each(u.Names, func(r api.Rename) api.Export {
 			x, _ := nameOf(f, r.From)
 			x.Name = r.To
 			return x
 		})
 	}
-	return each(f.Names, func(x api.Export) api.Export {
+	return lists.Each(f.Names, func(x api.Export) api.Export {
 		x.Name = u.Prefix + x.Name
 		return x
 	})

@@ -6,6 +6,7 @@ import (
 	"strings"
 
 	"skerry/api"
+	"skerry/lists"
 )
 
 // maker makes sources and faces by chance, of which most can be resolved.
@@ -187,7 +188,7 @@ func (m *maker) collect(r rules) {
 
 // exports tells whether all names that a use clause imports are there.
 func (r rules) exports(u api.Use) bool {
-	return r.face(u.Lib) != nil && all(u.Names, func(n api.Rename) bool { return exportOf(r.face(u.Lib).Names, n.From) != nil })
+	return r.face(u.Lib) != nil && lists.All(u.Names, func(n api.Rename) bool { return exportOf(r.face(u.Lib).Names, n.From) != nil })
 }
 
 // fill adds to definitions what refers to names, and definitions that introduce none.

@@ -5,6 +5,7 @@ import (
 	"testing"
 
 	"skerry/api"
+	"skerry/lists"
 	"skerry/syntax"
 )
 
@@ -54,7 +55,7 @@ func TestResolve(t *testing.T) {
 		if got := showLibrary(l, main); e != api.OK || got != x.want {
 			t.Errorf("Resolve(%s) = %s, %d; expected %s", x.text, got, e, x.want)
 		}
-		uses := each(s.Uses, func(u api.Use) string { return u.Lib })
+		uses := lists.Each(s.Uses, func(u api.Use) string { return u.Lib })
 		if l.Name != s.Name || !same(l.Uses, uses) {
 			t.Errorf("Resolve(%s) is the library %s that uses %v", x.text, l.Name, l.Uses)
 		}

@@ -2,6 +2,7 @@ package module
 
 import (
 	"skerry/api"
+	"skerry/lists"
 	"skerry/syntax"
 )
 
@@ -62,12 +63,12 @@ func isSetter(x api.Export) bool  { return isGeneric(x) && x.Arity == 2 }
 
 // library resolves a source.
 func (r *resolver) library(s api.Source) (api.Library, []api.Expr) {
-	l := api.Library{Name: s.Name, Uses: each(s.Uses, func(u api.Use) string { return u.Lib })}
+	l := api.Library{Name: s.Name, Uses: lists.Each(s.Uses, func(u api.Use) string { return u.Lib })}
 	resolve := definitions()
 	for _, d := range s.Defs {
 		l.Defs = append(l.Defs, resolve[d.Kind](r, d)...)
 	}
-	return l, each(s.Main, r.alone)
+	return l, lists.Each(s.Main, r.alone)
 }
 
 // definitions has, for each kind of definitions, what resolves one.
@@ -85,7 +86,7 @@ func definitions() map[int]func(*resolver, api.Def) []api.Def {
 func (r *resolver) class(d api.Def) []api.Def {
 	c := d.Class
 	c.Name = r.className(c.Name)
-	c.Supers = each(c.Supers, r.className)
+	c.Supers = lists.Each(c.Supers, r.className)
 	c.Slots = nil
 	for _, s := range d.Class.Slots {
 		resolved := r.slot(s)
@@ -105,7 +106,7 @@ func (r *resolver) slot(s api.Slot) api.Slot {
 	s.Name = r.find(s.Name, isGetter)
 	r.find(setter, isSetter)
 	s.Type = r.typ(s.Type)
-	s.Init = each(s.Init, r.alone)
+	s.Init = lists.Each(s.Init, r.alone)
 	return s
 }
 
@@ -131,7 +132,7 @@ func (r *resolver) method(d api.Def) []api.Def {
 	m := d.Method
 	bound := scope(unbound).with(paramNames(m.Params))
 	m.Generic = r.genericName(m.Generic)
-	m.Params = each(m.Params, r.param)
+	m.Params = lists.Each(m.Params, r.param)
 	m.Result = r.typ(m.Result)
 	m.Body = r.expr(m.Body, bound)
 	return []api.Def{{Kind: api.DfMethod, Method: m}}
@@ -139,7 +140,7 @@ func (r *resolver) method(d api.Def) []api.Def {
 
 func (r *resolver) domain(d api.Def) []api.Def {
 	generic := r.genericName(d.Domain.Generic)
-	types := each(d.Domain.Types, r.typ)
+	types := lists.Each(d.Domain.Types, r.typ)
 	return []api.Def{{Kind: api.DfDomain, Domain: api.DomainDef{Generic: generic, Types: types}}}
 }
 

@@ -10,6 +10,7 @@ import (
 
 	"skerry/api"
 	"skerry/lex"
+	"skerry/lists"
 	"skerry/syntax"
 )
 
@@ -70,7 +71,7 @@ func entries(lib, text string) []api.Export {
 }
 
 func showEntries(l []api.Export) string {
-	return strings.Join(each(l, func(x api.Export) string {
+	return strings.Join(lists.Each(l, func(x api.Export) string {
 		kind := strconv.Itoa(x.Arity)
 		switch {
 		case x.Kind == api.DfClass && x.Arity == 0:
@@ -90,21 +91,21 @@ func face(lib, text string) api.Face {
 
 // showLibrary writes the definitions of a library, and its main expression, as texts with / between them.
 func showLibrary(l api.Library, main []api.Expr) string {
-	return strings.Join(append(each(l.Defs, showDef), each(main, show)...), " / ")
+	return strings.Join(append(lists.Each(l.Defs, showDef), lists.Each(main, show)...), " / ")
 }
 
 func showDef(d api.Def) string {
 	c, g, m := d.Class, d.Generic, d.Method
 	switch {
 	case same(d, api.Def{Kind: api.DfClass, Class: c}):
-		return fmt.Sprintf("class %s %v%s%s [%s]", c.Name, c.Supers, flag(" abstract", c.Abstract), flag(" sealed", c.Sealed), strings.Join(each(c.Slots, showSlot), ", "))
+		return fmt.Sprintf("class %s %v%s%s [%s]", c.Name, c.Supers, flag(" abstract", c.Abstract), flag(" sealed", c.Sealed), strings.Join(lists.Each(c.Slots, showSlot), ", "))
 	case same(d, api.Def{Kind: api.DfGeneric, Generic: g}):
 		return fmt.Sprintf("generic %s %d%s", g.Name, g.Arity, flag(" sealed", g.Sealed))
 	case same(d, api.Def{Kind: api.DfMethod, Method: m}):
 		param := func(p api.Param) string { return p.Name + " :: " + showType(p.Type) }
-		return fmt.Sprintf("method %s (%s) => %s %s", m.Generic, strings.Join(each(m.Params, param), ", "), showType(m.Result), show(m.Body))
+		return fmt.Sprintf("method %s (%s) => %s %s", m.Generic, strings.Join(lists.Each(m.Params, param), ", "), showType(m.Result), show(m.Body))
 	case same(d, api.Def{Kind: api.DfDomain, Domain: d.Domain}):
-		return fmt.Sprintf("domain %s (%s)", d.Domain.Generic, strings.Join(each(d.Domain.Types, showType), ", "))
+		return fmt.Sprintf("domain %s (%s)", d.Domain.Generic, strings.Join(lists.Each(d.Domain.Types, showType), ", "))
 	case same(d, api.Def{Kind: api.DfConst, Name: d.Name, Body: d.Body}):
 		return fmt.Sprintf("constant %s %s", d.Name, show(d.Body))
 	}
@@ -126,12 +127,12 @@ func showSlot(s api.Slot) string {
 	if s.Key != "" {
 		text += " key " + s.Key
 	}
-	return text + strings.Join(each(s.Init, func(e api.Expr) string { return " init " + show(e) }), "")
+	return text + strings.Join(lists.Each(s.Init, func(e api.Expr) string { return " init " + show(e) }), "")
 }
 
 // show writes an expression as layer 4 does it, and what accessors do as get and set.
 func show(e api.Expr) string {
-	args := strings.Join(each(e.Args, show), ", ")
+	args := strings.Join(lists.Each(e.Args, show), ", ")
 	switch {
 	case same(e, api.Expr{Kind: api.ExSlot, Name: e.Name, Args: e.Args}):
 		return "get " + e.Name + "(" + args + ")"

@@ -7,6 +7,7 @@ import (
 	"testing"
 
 	"skerry/api"
+	"skerry/lists"
 	"skerry/syntax"
 )
 
@@ -106,7 +107,7 @@ func (m *maker) renaming(e api.Expr, names map[string]string) api.Expr {
 			}
 		}
 	}
-	params := each(e.Params, paramName)
+	params := lists.Each(e.Params, paramName)
 	if e.Kind == api.ExFn && e.Name != "" && !slices.Contains(params, e.Name) { // it is bound by the let
 		inner[e.Name] = names[e.Name]
 	}
@@ -209,24 +210,24 @@ func (r rules) renamed(other func(string) string) api.Source {
 	s.Defs, s.Main = nil, nil
 	for _, d := range r.Defs {
 		c, m := d.Class, d.Method
-		d.Class.Supers, d.Class.Slots = each(c.Supers, other), nil
+		d.Class.Supers, d.Class.Slots = lists.Each(c.Supers, other), nil
 		for _, slot := range c.Slots {
 			slot.Type = l.typ(slot.Type)
-			slot.Init = each(slot.Init, func(e api.Expr) api.Expr { return l.expr(e, nil) })
+			slot.Init = lists.Each(slot.Init, func(e api.Expr) api.Expr { return l.expr(e, nil) })
 			d.Class.Slots = append(d.Class.Slots, slot)
 		}
 		switch d.Kind {
 		case api.DfMethod:
 			d.Method = api.MethodDef{Generic: other(m.Generic), Params: l.params(m.Params), Result: l.typ(m.Result), Body: l.expr(m.Body, paramNames(m.Params))}
 		case api.DfDomain:
-			d.Domain = api.DomainDef{Generic: other(d.Domain.Generic), Types: each(d.Domain.Types, l.typ)}
+			d.Domain = api.DomainDef{Generic: other(d.Domain.Generic), Types: lists.Each(d.Domain.Types, l.typ)}
 		case api.DfConst:
 			d.Body = l.expr(d.Body, nil)
 		}
 		s.Defs = append(s.Defs, d)
 	}
-	s.Main = each(r.Main, func(e api.Expr) api.Expr { return l.expr(e, nil) })
-	s.Exports = each(r.Exports, other)
+	s.Main = lists.Each(r.Main, func(e api.Expr) api.Expr { return l.expr(e, nil) })
+	s.Exports = lists.Each(r.Exports, other)
 	return s
 }
 
@@ -262,7 +263,7 @@ func TestPrefix(t *testing.T) {
 		}
 		list, _ := Table(p.Source, p.faces)
 		list = slices.DeleteFunc(list, func(x api.Export) bool { return !strings.HasPrefix(x.Name, "z_") })
-		want := each(r.face(use.Lib).Names, func(x api.Export) api.Export {
+		want := lists.Each(r.face(use.Lib).Names, func(x api.Export) api.Export {
 			return api.Export{Name: "z_" + x.Name, Full: x.Full, Kind: x.Kind, Arity: x.Arity}
 		})
 		if !same(list, want) {
@@ -286,7 +287,7 @@ func TestUses(t *testing.T) {
 		p.Uses = slices.Clone(r.Uses)
 		m.Shuffle(len(p.Uses), func(i, j int) { p.Uses[i], p.Uses[j] = p.Uses[j], p.Uses[i] })
 		l2, main2 := p.resolve(t)
-		if !same(l.Defs, l2.Defs) || !same(main, main2) || !same(l2.Uses, each(p.Uses, func(u api.Use) string { return u.Lib })) {
+		if !same(l.Defs, l2.Defs) || !same(main, main2) || !same(l2.Uses, lists.Each(p.Uses, func(u api.Use) string { return u.Lib })) {
 			t.Fatalf("Resolve(%v) = %s; with Uses in another order %s", r.Source, showLibrary(l, main), showLibrary(l2, main2))
 		}
 		if len(r.Uses) > 1 {

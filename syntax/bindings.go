@@ -4,6 +4,7 @@ import (
 	"slices"
 
 	"skerry/api"
+	"skerry/lists"
 )
 
 // boundIn is the names that an expression binds in its Args with an index. (The name of a function is bound by its let.)
@@ -16,7 +17,7 @@ func boundIn(e api.Expr, i int) []string {
 	case e.Kind == api.ExLet || e.Kind == api.ExBlock:
 		return []string{e.Name}
 	}
-	return texts(e.Params, func(p api.Param) string { return p.Name })
+	return lists.Each(e.Params, func(p api.Param) string { return p.Name })
 }
 
 // finder finds the variables that occur outside of the scopes of their bindings.

@@ -1,6 +1,9 @@
 package syntax
 
-import "skerry/api"
+import (
+	"skerry/api"
+	"skerry/lists"
+)
 
 // shape is which fields, beside Kind, expressions of a kind use, and how many Args they have.
 type shape struct {
@@ -120,9 +123,9 @@ func operands(name string) int {
 }
 
 func rightParams(l []api.Param) bool {
-	names := texts(l, func(p api.Param) string { return p.Name })
+	names := lists.Each(l, func(p api.Param) string { return p.Name })
 	typed := func(p api.Param) bool { return rightType(p.Type) }
-	return len(l) <= api.MaxParams && distinct(names, isName) && all(l, typed)
+	return len(l) <= api.MaxParams && distinct(names, isName) && lists.All(l, typed)
 }
 
 // rightType tells whether a type whose extent is right is well-formed.
@@ -142,7 +145,7 @@ func rightType(t api.Type) bool {
 		right = t.Lo == 0 || t.Lo == 1
 	case api.TyUnion:
 		rest.Args = nil
-		right = len(t.Args) <= api.MaxArgs && all(t.Args, rightType)
+		right = len(t.Args) <= api.MaxArgs && lists.All(t.Args, rightType)
 	}
 	return right && isNoType(rest)
 }

@@ -1,18 +1,21 @@
 package syntax
 
-import "skerry/api"
+import (
+	"skerry/api"
+	"skerry/lists"
+)
 
 // rightSource tells whether a source whose extent is right is well-formed.
 func rightSource(s api.Source) bool {
 	if s.Patch && len(s.Main)+len(s.Uses)+len(s.Exports) > 0 {
 		return false
 	}
-	libs := texts(s.Uses, func(u api.Use) string { return u.Lib })
+	libs := lists.Each(s.Uses, func(u api.Use) string { return u.Lib })
 	return isLibrary(s.Name) &&
-		len(s.Uses) <= api.MaxLibs && distinct(libs, isLibrary) && all(s.Uses, rightUse) &&
+		len(s.Uses) <= api.MaxLibs && distinct(libs, isLibrary) && lists.All(s.Uses, rightUse) &&
 		len(s.Exports) <= api.MaxArgs && distinct(s.Exports, isPlain) &&
-		len(s.Defs) <= api.MaxDefs && all(s.Defs, rightDefinition) &&
-		len(s.Main) <= 1 && all(s.Main, rightAlone)
+		len(s.Defs) <= api.MaxDefs && lists.All(s.Defs, rightDefinition) &&
+		len(s.Main) <= 1 && lists.All(s.Main, rightAlone)
 }
 
 // rightAlone tells whether an expression that is not part of another one is well-formed.
@@ -25,7 +28,7 @@ func rightUse(u api.Use) bool {
 		return len(u.Names) == 0 && (u.Prefix == "" || isPlain(u.Prefix))
 	}
 	both := func(r api.Rename) bool { return isPlain(r.From) && isPlain(r.To) }
-	return u.Prefix == "" && 1 <= len(u.Names) && len(u.Names) <= api.MaxArgs && all(u.Names, both)
+	return u.Prefix == "" && 1 <= len(u.Names) && len(u.Names) <= api.MaxArgs && lists.All(u.Names, both)
 }
 
 func rightDefinition(d api.Def) bool {
@@ -41,7 +44,7 @@ func rightDefinition(d api.Def) bool {
 		right = isName(d.Method.Generic) && rightParams(d.Method.Params) && rightType(d.Method.Result) && rightAlone(d.Method.Body)
 		d.Method = api.MethodDef{}
 	case api.DfDomain:
-		right = isName(d.Domain.Generic) && len(d.Domain.Types) <= api.MaxParams && all(d.Domain.Types, rightType)
+		right = isName(d.Domain.Generic) && len(d.Domain.Types) <= api.MaxParams && lists.All(d.Domain.Types, rightType)
 		d.Domain = api.DomainDef{}
 	case api.DfConst:
 		right = isPlain(d.Name) && rightAlone(d.Body)
@@ -61,15 +64,15 @@ func isEmpty(d api.Def) bool {
 }
 
 func rightClass(c api.ClassDef) bool {
-	names := texts(c.Slots, func(s api.Slot) string { return s.Name })
+	names := lists.Each(c.Slots, func(s api.Slot) string { return s.Name })
 	return isPlain(c.Name) &&
-		1 <= len(c.Supers) && len(c.Supers) <= api.MaxSupers && all(c.Supers, isName) &&
-		len(c.Slots) <= api.MaxSlots && distinct(names, isPlain) && all(c.Slots, rightSlot)
+		1 <= len(c.Supers) && len(c.Supers) <= api.MaxSupers && lists.All(c.Supers, isName) &&
+		len(c.Slots) <= api.MaxSlots && distinct(names, isPlain) && lists.All(c.Slots, rightSlot)
 }
 
 func rightSlot(s api.Slot) bool {
 	if s.Alloc < api.SlInst || s.Alloc > api.SlVirt || s.Alloc == api.SlVirt && (s.Key != "" || len(s.Init) > 0) {
 		return false
 	}
-	return rightType(s.Type) && (s.Key == "" || isKey(s.Key)) && len(s.Init) <= 1 && all(s.Init, rightAlone)
+	return rightType(s.Type) && (s.Key == "" || isKey(s.Key)) && len(s.Init) <= 1 && lists.All(s.Init, rightAlone)
 }

@@ -1,6 +1,9 @@
 package syntax
 
-import "skerry/api"
+import (
+	"skerry/api"
+	"skerry/lists"
+)
 
 // extent is how many expressions and types there are, and how many of either are within each other. What adds to it tells whether it may go on: there may be no end, so it stops when there are too many.
 type extent struct {
@@ -32,7 +35,7 @@ func (x *extent) one() bool {
 func (x *extent) expr(e api.Expr, depth int) bool {
 	x.exprs = max(x.exprs, depth)
 	within := func(a api.Expr) bool { return x.expr(a, depth+1) }
-	return x.one() && x.someType(e.Type, 1) && all(e.Params, x.param) && all(e.Args, within)
+	return x.one() && x.someType(e.Type, 1) && lists.All(e.Params, x.param) && lists.All(e.Args, within)
 }
 
 func (x *extent) alone(e api.Expr) bool {
@@ -42,7 +45,7 @@ func (x *extent) alone(e api.Expr) bool {
 func (x *extent) typeAt(t api.Type, depth int) bool {
 	x.types = max(x.types, depth)
 	within := func(a api.Type) bool { return x.someType(a, depth+1) }
-	return x.one() && all(t.Args, within)
+	return x.one() && lists.All(t.Args, within)
 }
 
 // someType adds a type, if there is one.
@@ -59,19 +62,19 @@ func (x *extent) param(p api.Param) bool {
 }
 
 func (x *extent) slot(s api.Slot) bool {
-	return x.someType(s.Type, 1) && all(s.Init, x.alone)
+	return x.someType(s.Type, 1) && lists.All(s.Init, x.alone)
 }
 
 func (x *extent) source(s api.Source) bool {
-	return all(s.Defs, x.definition) && all(s.Main, x.alone)
+	return lists.All(s.Defs, x.definition) && lists.All(s.Main, x.alone)
 }
 
 // definition adds all of a definition, also what its kind does not use.
 func (x *extent) definition(d api.Def) bool {
 	m := d.Method
-	return all(d.Class.Slots, x.slot) &&
-		all(m.Params, x.param) && x.someType(m.Result, 1) && x.body(m.Body, d.Kind == api.DfMethod) &&
-		all(d.Domain.Types, x.outerType) &&
+	return lists.All(d.Class.Slots, x.slot) &&
+		lists.All(m.Params, x.param) && x.someType(m.Result, 1) && x.body(m.Body, d.Kind == api.DfMethod) &&
+		lists.All(d.Domain.Types, x.outerType) &&
 		x.body(d.Body, d.Kind == api.DfConst)
 }
 

@@ -5,6 +5,7 @@ import (
 
 	"skerry/api"
 	"skerry/lex"
+	"skerry/lists"
 )
 
 // line joins texts that are not empty.
@@ -89,7 +90,7 @@ func booleanText(n int) string {
 }
 
 func exprTexts(l []api.Expr) string {
-	return inParentheses(texts(l, exprText))
+	return inParentheses(lists.Each(l, exprText))
 }
 
 // operandText is the text of an expression, one that can stand for an atom of the grammar.
@@ -123,7 +124,7 @@ func bodyText(e api.Expr) string {
 		return tailText(e)
 	}
 	last := len(e.Args) - 1
-	return line(joined(" ; ", texts(e.Args[:last], exprText)), ";", tailText(e.Args[last]))
+	return line(joined(" ; ", lists.Each(e.Args[:last], exprText)), ";", tailText(e.Args[last]))
 }
 
 // tailText is the text of the last ones of the statements of a body: an expression, or a statement with what is in its scope.
@@ -145,7 +146,7 @@ func functionText(e api.Expr) string {
 }
 
 func paramsText(l []api.Param) string {
-	return inParentheses(texts(l, func(p api.Param) string { return line(p.Name, "::", typeText(p.Type)) }))
+	return inParentheses(lists.Each(l, func(p api.Param) string { return line(p.Name, "::", typeText(p.Type)) }))
 }
 
 func blockText(e api.Expr) string {
@@ -157,7 +158,7 @@ func blockText(e api.Expr) string {
 }
 
 func makeText(e api.Expr) string {
-	parts := texts(e.Args, exprText)
+	parts := lists.Each(e.Args, exprText)
 	for i, key := range e.Keys {
 		parts[i+1] = line(key+":", parts[i+1])
 	}
@@ -173,7 +174,7 @@ func typeText(t api.Type) string {
 	case api.TySub:
 		return line("subclass (", t.Name, ")")
 	case api.TyUnion:
-		return line("type-union", inParentheses(texts(t.Args, typeText)))
+		return line("type-union", inParentheses(lists.Each(t.Args, typeText)))
 	}
 	return t.Name
 }

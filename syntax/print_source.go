@@ -4,6 +4,7 @@ import (
 	"strings"
 
 	"skerry/api"
+	"skerry/lists"
 )
 
 func sourceText(s api.Source) string {
@@ -14,14 +15,14 @@ func sourceText(s api.Source) string {
 	if len(s.Exports) > 0 {
 		exports = line("export", commas(s.Exports), ";")
 	}
-	uses, defs, main := texts(s.Uses, useText), texts(s.Defs, definitionText), texts(s.Main, exprText)
+	uses, defs, main := lists.Each(s.Uses, useText), lists.Each(s.Defs, definitionText), lists.Each(s.Main, exprText)
 	return line(word, s.Name, ";", line(uses...), exports, line(defs...), line(main...))
 }
 
 func useText(u api.Use) string {
 	switch {
 	case !u.All:
-		return line("use", u.Lib, ", import: {", commas(texts(u.Names, itemText)), "} ;")
+		return line("use", u.Lib, ", import: {", commas(lists.Each(u.Names, itemText)), "} ;")
 	case u.Prefix != "":
 		return line("use", u.Lib, ", prefix:", u.Prefix, ";")
 	}
@@ -46,7 +47,7 @@ func definitionText(d api.Def) string {
 		m := d.Method
 		return line("define method", m.Generic, paramsText(m.Params), "=>", typeText(m.Result), bodyText(m.Body), "end ;")
 	case api.DfDomain:
-		return line("define sealed domain", d.Domain.Generic, inParentheses(texts(d.Domain.Types, typeText)), ";")
+		return line("define sealed domain", d.Domain.Generic, inParentheses(lists.Each(d.Domain.Types, typeText)), ";")
 	}
 	return line("define constant", d.Name, "=", exprText(d.Body), ";")
 }
@@ -60,7 +61,7 @@ func word(s string, there bool) string {
 }
 
 func classText(c api.ClassDef) string {
-	slots := line(texts(c.Slots, slotText)...)
+	slots := line(lists.Each(c.Slots, slotText)...)
 	return line(word("abstract", c.Abstract), word("sealed", c.Sealed), "class", c.Name, inParentheses(c.Supers), slots, "end")
 }
 

@@ -9,6 +9,7 @@ import (
 
 	"skerry/api"
 	"skerry/lex"
+	"skerry/lists"
 )
 
 // toks are the tokens of a text whose tokens have blanks between them. A ' and digits behind a token are its mark.
@@ -61,7 +62,7 @@ func show(e api.Expr) string {
 }
 
 func showAll[T any](l []T, show func(T) string) string {
-	return "[" + strings.Join(texts(l, show), " ") + "]"
+	return "[" + strings.Join(lists.Each(l, show), " ") + "]"
 }
 
 func showParams(l []api.Param) string {
@@ -97,8 +98,8 @@ func showSource(s api.Source) string {
 	if len(s.Exports) > 0 {
 		parts = append(parts, fmt.Sprint("export ", s.Exports))
 	}
-	parts = append(parts, texts(s.Defs, showDefinition)...)
-	return strings.Join(append(parts, texts(s.Main, show)...), " / ")
+	parts = append(parts, lists.Each(s.Defs, showDefinition)...)
+	return strings.Join(append(parts, lists.Each(s.Main, show)...), " / ")
 }
 
 func showDefinition(d api.Def) string {
