@@ -77,7 +77,7 @@ func (f *front) read() (int, api.Errno) {
 			words = append(words, m.Name)
 		}
 	}
-	l, at, e := fragment.Read(f.tokens, lists.Firsts(words, itself))
+	l, at, e := fragment.Read(f.tokens, lists.Firsts(words, lists.Itself))
 	f.tree = l
 	return at, e
 }

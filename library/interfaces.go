@@ -11,7 +11,6 @@ import (
 	"skerry/module"
 )
 
-func itself(name string) string        { return name }
 func macroName(m api.Macro) string     { return m.Name }
 func libOf(i api.Interface) string     { return i.Face.Lib }
 func faceOf(i api.Interface) api.Face  { return i.Face }

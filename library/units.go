@@ -31,7 +31,7 @@ func (p part) isValid() bool {
 
 // needs yields the names of the libraries that a unit uses, each once, or of the one that it patches.
 func (p part) needs(yield func(string) bool) {
-	libs := lists.Firsts(p.Uses, itself)
+	libs := lists.Firsts(p.Uses, lists.Itself)
 	if p.Patch {
 		libs = []string{p.Name}
 	}

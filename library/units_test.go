@@ -20,7 +20,7 @@ func bare(text string) api.Unit {
 		return u
 	}
 	u.Interface = plain(u.Library.Name)
-	u.Against = lists.Each(lists.Firsts(u.Library.Uses, itself), plain)
+	u.Against = lists.Each(lists.Firsts(u.Library.Uses, lists.Itself), plain)
 	return u
 }
 

@@ -34,3 +34,8 @@ func Firsts[T any](l []T, name func(T) string) []T {
 func Distinct[T any](l []T, name func(T) string) bool {
 	return len(Firsts(l, name)) == len(l)
 }
+
+// Itself is the name of a string in a list of names.
+func Itself(name string) string {
+	return name
+}

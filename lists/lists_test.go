@@ -51,3 +51,11 @@ func TestFirsts(t *testing.T) {
 		t.Errorf("Firsts shares memory")
 	}
 }
+
+func TestItself(t *testing.T) {
+	for _, name := range []string{"", "a", "<b>@c"} {
+		if got := Itself(name); got != name {
+			t.Errorf("Itself(%q) = %q", name, got)
+		}
+	}
+}
